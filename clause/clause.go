@@ -3,7 +3,11 @@ package clause
 
 import (
 	"clause/api"
+	"clause/fault"
+	"clause/parser"
+	"clause/printer"
 	"clause/reader"
+	"clause/syntax"
 )
 
 // Store is a database.
@@ -13,26 +17,31 @@ type Store struct{}
 func Tokens(text string) (tokens []api.Token, at int, errno api.Errno) {
 	defer func() {
 		if caught := recover(); caught != nil {
-			at, errno = told(caught)
+			at, errno = fault.Told(caught)
 		}
 	}()
 	return reader.Tokens(text), 0, api.OK
 }
 
-// told answers what the reader gave up with. Any other panic is a mistake of the program, not one of the text, and goes on: an error of the text would hide it.
-func told(caught any) (int, api.Errno) {
-	fault, ok := caught.(reader.Fault)
-	if !ok {
-		panic(caught)
-	}
-	return fault.At, fault.Err
+// Parse reads a statement (P4).
+func Parse(text string) (tree []api.Node, at int, errno api.Errno) {
+	defer func() {
+		if caught := recover(); caught != nil {
+			at, errno = fault.Told(caught)
+		}
+	}()
+	return syntax.Nodes(parser.Statement(text)), 0, api.OK
 }
 
-// Parse reads a statement (P4).
-func Parse(text string) ([]api.Node, int, api.Errno) { return nil, 0, api.OK }
-
 // Print writes a tree (P5).
-func Print(tree []api.Node) (string, api.Errno) { return "", api.OK }
+func Print(tree []api.Node) (text string, errno api.Errno) {
+	defer func() {
+		if caught := recover(); caught != nil {
+			_, errno = fault.Told(caught)
+		}
+	}()
+	return printer.Text(syntax.Read(tree)), api.OK
+}
 
 // New makes a store without tables (P7).
 func New() *Store { return nil }

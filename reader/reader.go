@@ -6,13 +6,8 @@ import (
 	"unicode/utf8"
 
 	"clause/api"
+	"clause/fault"
 )
-
-// Fault is what the reader panics with to give up: whoever calls it from outside catches it.
-type Fault struct {
-	At  int
-	Err api.Errno
-}
 
 // What stands where no rune can be read.
 const (
@@ -20,8 +15,8 @@ const (
 	broken rune = -2 // a byte that begins no valid UTF-8
 )
 
-// greatest is the value that no number may be above: it may stand behind a -.
-const greatest = "9223372036854775808"
+// Greatest is the value that no number may be above: it may stand behind a -.
+const Greatest = "9223372036854775808"
 
 var keywords = [...]string{
 	"AND", "ASC", "BOOLEAN", "BY", "CREATE", "DELETE", "DESC", "DROP", "FALSE",
@@ -35,10 +30,10 @@ var signs = [...]string{
 	"(", ")", ",", ";", "*", "+", "-", "/", "%", "=", "<", ">",
 }
 
-// Tokens answers all tokens of a text, or panics with a Fault.
+// Tokens answers all tokens of a text, or panics with a fault.Fault.
 func Tokens(text string) []api.Token {
 	if len(text) > api.MaxText {
-		panic(Fault{Err: api.ErrLong})
+		panic(fault.Fault{Err: api.ErrLong})
 	}
 	r := reader{text: text}
 	var tokens []api.Token
@@ -46,6 +41,16 @@ func Tokens(text string) []api.Token {
 		tokens = append(tokens, r.next())
 	}
 	return tokens
+}
+
+// IsBare tells whether a name can stand without quotes: whether it is a word that is read as this name.
+func IsBare(name string) bool {
+	for i, c := range name {
+		if !inWord(c) || i == 0 && isDigit(c) {
+			return false
+		}
+	}
+	return name != "" && name == strings.ToLower(name) && !isKeyword(strings.ToUpper(name))
 }
 
 type reader struct {
@@ -56,7 +61,7 @@ type reader struct {
 
 // fail gives up: whatever is wrong with a token is told at its beginning.
 func (r *reader) fail(errno api.Errno) {
-	panic(Fault{At: r.start, Err: errno})
+	panic(fault.Fault{At: r.start, Err: errno})
 }
 
 // peek answers the rune that stands next and how many bytes it has.
@@ -143,7 +148,7 @@ func (r *reader) number() string {
 	if digits == "" {
 		return "0"
 	}
-	if isAbove(digits, greatest) {
+	if isAbove(digits, Greatest) {
 		r.fail(api.ErrNumber)
 	}
 	return digits
