@@ -2,7 +2,10 @@
 package clause
 
 import (
+	"sync"
+
 	"clause/api"
+	"clause/database"
 	"clause/fault"
 	"clause/parser"
 	"clause/printer"
@@ -11,7 +14,10 @@ import (
 )
 
 // Store is a database.
-type Store struct{}
+type Store struct {
+	lock sync.Mutex
+	data database.Database
+}
 
 // Tokens reads the tokens of a text (P3).
 func Tokens(text string) (tokens []api.Token, at int, errno api.Errno) {
@@ -44,13 +50,34 @@ func Print(tree []api.Node) (text string, errno api.Errno) {
 }
 
 // New makes a store without tables (P7).
-func New() *Store { return nil }
+func New() *Store { return &Store{} }
 
 // Run runs a statement (P7).
-func (s *Store) Run(text string) (api.Answer, api.Errno) { return api.Answer{}, api.OK }
+func (s *Store) Run(text string) (answer api.Answer, errno api.Errno) {
+	defer func() {
+		if caught := recover(); caught != nil {
+			_, errno = fault.Told(caught)
+		}
+	}()
+	statement := parser.Statement(text)
+	// Where no store is there is no table either, and no place for one.
+	if s == nil {
+		return api.Answer{}, api.ErrTable
+	}
+	s.lock.Lock()
+	defer s.lock.Unlock()
+	return s.data.Run(statement), api.OK
+}
 
 // Dump writes the store down (P9).
-func (s *Store) Dump() string { return "" }
+func (s *Store) Dump() string {
+	if s == nil {
+		return ""
+	}
+	s.lock.Lock()
+	defer s.lock.Unlock()
+	return s.data.Dump()
+}
 
 // Load makes a store of a text (P10).
 func Load(text string) (*Store, int, api.Errno) { return nil, 0, api.OK }
