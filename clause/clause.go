@@ -80,4 +80,22 @@ func (s *Store) Dump() string {
 }
 
 // Load makes a store of a text (P10).
-func Load(text string) (*Store, int, api.Errno) { return nil, 0, api.OK }
+func Load(text string) (store *Store, count int, errno api.Errno) {
+	defer func() {
+		if caught := recover(); caught != nil {
+			_, errno = fault.Told(caught)
+		}
+	}()
+	// It needs no lock: nobody else knows of it yet.
+	made := New()
+	for piece, closed := range reader.Statements(text) {
+		count++
+		statement := parser.Statement(piece)
+		// This comes behind the parser: its error counts more than that of the ; that is not there.
+		if !closed {
+			return nil, count, api.ErrSyntax
+		}
+		made.data.Run(statement)
+	}
+	return made, count, api.OK
+}
